@@ -1,0 +1,1 @@
+"""Kindnames: right names of kinds, from pages."""

@@ -1,0 +1,14 @@
+"""Links (mark, from, to) and the rows of them that lead from one thing to another."""
+
+
+def chain(links, start, goal):
+    """A shortest row of links that leads from start to goal, None where none does."""
+    rows = {start: []}
+    waiting = [start]
+    while waiting:
+        at = waiting.pop(0)
+        for link in links:
+            if link[1] == at and link[2] not in rows:
+                rows[link[2]] = rows[at] + [link]
+                waiting.append(link[2])
+    return rows.get(goal)

@@ -1,0 +1,64 @@
+"""The names, arguments and files of the interface, as far as they have landed."""
+
+import ast
+import inspect
+import importlib
+import pathlib
+import unittest
+
+PACKAGE = pathlib.Path(__file__).resolve().parent.parent / "kindnames"
+
+FUNCTIONS = {
+    "words": ["is_word(thing)", "is_moment(thing)", "is_pair(thing)", "is_node(thing)"],
+}
+
+CLASSES = {
+    "book": {"Book()": [
+        "publish(moment, words, *, rank=0, sheets=(), like=None)", "choose(moment, name, sheet)",
+        "strike(moment, name, *, whole=False)", "ahead(moment, name, other)", "drop(moment)", "entries(*, upto=None)",
+        "names(*, rank=None, upto=None)", "words(name)", "rank(name)", "base(name)", "chosen(name, *, upto=None)",
+        "bearers(name, *, upto=None)", "struck(name, *, upto=None)", "wholly(name, *, upto=None)",
+        "taker(name, *, upto=None)", "aheads(*, upto=None)", "__len__()"]},
+    "trees": {"Tree(kinds=None, parents=None)": [
+        "nodes(*, rank=None)", "sheets(node=None)", "kind_of(sheet)", "parent(node)", "above(node, rank)",
+        "inner(node)", "__eq__(other)", "__len__()"]},
+}
+
+
+def defined(module):
+    """The functions and classes that a file of the package defines itself."""
+    rows = ast.parse((PACKAGE / f"{module}.py").read_text()).body
+    return {row.name: row for row in rows if isinstance(row, (ast.FunctionDef, ast.ClassDef))}
+
+
+def shown(name, function):
+    told = [each for each in inspect.signature(function).parameters.values() if each.name != "self"]
+    return name + str(inspect.Signature(told))
+
+
+class Interface(unittest.TestCase):
+    def test_functions_stand_in_their_files(self):
+        for module, rows in FUNCTIONS.items():
+            told = importlib.import_module(f"kindnames.{module}")
+            for row in rows:
+                name = row.partition("(")[0]
+                with self.subTest(row):
+                    self.assertIsInstance(defined(module)[name], ast.FunctionDef)
+                    self.assertEqual(shown(name, getattr(told, name)), row)
+
+    def test_classes_stand_in_their_files_with_each_method(self):
+        for module, classes in CLASSES.items():
+            told = importlib.import_module(f"kindnames.{module}")
+            for head, methods in classes.items():
+                name = head.partition("(")[0]
+                made = getattr(told, name)
+                own = [row.name for row in defined(module)[name].body if isinstance(row, ast.FunctionDef)]
+                self.assertEqual(shown(name, made.__init__), head)
+                for row in methods:
+                    with self.subTest(row):
+                        self.assertIn(row.partition("(")[0], own)
+                        self.assertEqual(shown(row.partition("(")[0], vars(made)[row.partition("(")[0]]), row)
+
+
+if __name__ == "__main__":
+    unittest.main()
