@@ -56,7 +56,7 @@ class Book:
             self._refuse_named(moment, like)
             if not _may_be_like(rank, self.rank(like)):
                 raise Unfit(like)
-        self._keep(("name", moment, rank, tuple(words), tuple(sheets), like))
+        self._keep(("name", moment, rank, words, tuple(sheets), like))
 
     def choose(self, moment, name, sheet):
         """Choose one of a name's own sheets as its bearer."""

@@ -1,8 +1,8 @@
 """Links (mark, from, to) and the rows of them that lead from one thing to another."""
 
 
-def chain(links, start, goal):
-    """A shortest row of links that leads from start to goal, None where none does."""
+def chains(links, start):
+    """A dict from all things to which links lead from start to shortest rows of links, start among them."""
     rows = {start: []}
     waiting = [start]
     while waiting:
@@ -11,4 +11,9 @@ def chain(links, start, goal):
             if link[1] == at and link[2] not in rows:
                 rows[link[2]] = rows[at] + [link]
                 waiting.append(link[2])
-    return rows.get(goal)
+    return rows
+
+
+def chain(links, start, goal):
+    """A shortest row of links that leads from start to goal, None where none does."""
+    return chains(links, start).get(goal)

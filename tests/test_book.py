@@ -3,7 +3,7 @@ import random
 import unittest
 
 from kindnames.book import Book
-from kindnames.errors import Needed, NoEntry
+from kindnames.errors import Needed, NoEntry, NoName
 from things import book_of, refusal
 
 BIG = 10 ** 12
@@ -220,6 +220,10 @@ class Drops(unittest.TestCase):
         self.assertEqual(book.struck((1, 1)), (2, 1))
         book.drop((2, 1))
         book.drop((1, 1))
+        for ask in [book.words, book.rank, book.base, book.chosen, book.bearers, book.struck, book.wholly, book.taker]:
+            self.assertEqual(refusal(self, NoName, ask, (1, 1)).moment, (1, 1))
+        refusal(self, NoName, book.strike, (2, 1), (1, 1))
+        refusal(self, NoName, book.publish, (2, 1), ("a", "b"), like=(1, 1))
         book.publish((1, 1), ("malus", "nova"), sheets=["c"])
         self.assertEqual(book.entries(), [("name", (1, 1), 0, ("malus", "nova"), ("c",), None)])
         self.assertEqual(book.bearers((1, 1)), ["c"])

@@ -2,7 +2,7 @@ import unittest
 
 from kindnames.book import Book
 from kindnames.errors import (BadMoment, BadName, Later, Needed, NoEntry, NoName, NoSheet, SameMoment, Unfit)
-from kindnames.words import is_moment, is_word
+from kindnames.words import is_moment
 from things import refusal, strange
 
 BIG = 10 ** 12

@@ -10,6 +10,11 @@ PACKAGE = pathlib.Path(__file__).resolve().parent.parent / "kindnames"
 
 FUNCTIONS = {
     "words": ["is_word(thing)", "is_moment(thing)", "is_pair(thing)", "is_node(thing)"],
+    "lies": ["why_lies(minds, mind, sheet, *, upto=None)", "why_one(minds, mind, node, other, *, upto=None)",
+             "shows_lies(minds, mind, sheet, paper, *, upto=None)",
+             "shows_one(minds, mind, node, other, paper, *, upto=None)"],
+    "right": ["why_not(book, tree, node, name, *, upto=None)", "right(book, tree, node, *, upto=None)"],
+    "rightpapers": ["right_paper(book, tree, node, *, upto=None)", "shows_right(book, tree, node, paper, *, upto=None)"],
 }
 
 CLASSES = {
@@ -22,6 +27,9 @@ CLASSES = {
     "trees": {"Tree(kinds=None, parents=None)": [
         "nodes(*, rank=None)", "sheets(node=None)", "kind_of(sheet)", "parent(node)", "above(node, rank)",
         "inner(node)", "__eq__(other)", "__len__()"]},
+    "minds": {"Minds()": [
+        "tell(moment, mind, deeds)", "drop(moment)", "pages(*, mind=None, upto=None)", "line(mind, *, upto=None)",
+        "tree(mind, *, upto=None)", "keeper(mind, node, *, upto=None)", "born(mind, node, *, upto=None)", "__len__()"]},
 }
 
 
