@@ -1,37 +1,27 @@
-"""What stands against names in a node of a tree, by a book up to a pair."""
-
-from kindnames.errors import Unfit
+"""What stands against names in a node of a tree."""
 
 
 class Fits:
     """The names of a node's rank, with all reasons why they aren't right in it but that of being younger."""
 
-    def __init__(self, book, tree, node, upto):
+    def __init__(self, names, tree, node):
         # Refuses a node that isn't in the tree; of None its sheets would be those of the whole tree.
         tree.parent(node)
-        self._book = book
-        self._upto = upto
+        self._names = names
         self._rank = node[0]
         self._sheets = tree.sheets(node)
         family = tree.above(node, 1) if node[0] == 0 else None
         self._family = [] if family is None else tree.sheets(family)
-        self._aheads = book.aheads(upto=upto)
-        self._strikes = [record for record in book.entries(upto=upto) if record[0] == "strike"]
-        self._names = book.names(rank=self._rank, upto=upto)
-        # Those that are wholly struck neither take words nor bar others.
-        self._standing = [name for name in self._names if book.wholly(name, upto=upto) is None]
-        self._fit = [name for name in self._names if not any([things for _, things in self.unfit(name)])]
+        self._of_rank = names.of_rank(node[0])
+        self._fit = [name for name in self._of_rank if not any([things for _, things in self.unfit(name)])]
 
     def refuse(self, name):
         """Refuse a name that isn't there, or is of another rank."""
-        # Asked for its refusal alone: a name's rank doesn't tell whether it is there up to the pair.
-        self._bearers(name)
-        if self._book.rank(name) != self._rank:
-            raise Unfit(name)
+        self._names.refuse(name, self._rank)
 
     def names(self):
         """The names of the rank that are there, rising."""
-        return list(self._names)
+        return list(self._of_rank)
 
     def fit(self):
         """The names that are in the node, neither struck, taken nor barred, rising."""
@@ -46,14 +36,18 @@ class Fits:
 
     def setters(self, name):
         """The names that are set ahead of a name by aheads that do something."""
-        return [one for _, one, other in self._aheads if other == name]
+        return [one for _, one, other in self._names.aheads() if other == name]
+
+    def links(self, names):
+        """The ways from each of some names to those of them that are set ahead of it, as links."""
+        return [(at, other, one) for at, one, other in self._names.aheads() if one in names and other in names]
 
     def unfit(self, name):
         """The four reasons why a name isn't fit, in order, each with all things by which it is so."""
         return [
-            ("elsewhere", [sheet for sheet in self._bearers(name) if sheet not in self._sheets]),
-            ("struck", [record[1] for record in self._strikes if record[2] == name]),
-            ("taken", self._takers(name)),
+            ("elsewhere", [sheet for sheet in self._names.bearers(name) if sheet not in self._sheets]),
+            ("struck", self._names.strikes(name)),
+            ("taken", self._names.takers(name)),
             ("barred", self._bars(name)),
         ]
 
@@ -68,25 +62,15 @@ class Fits:
                 return (reason, things[0])
         return None
 
-    def _bearers(self, name):
-        return self._book.bearers(name, upto=self._upto)
-
-    def _elder(self, name):
-        """The elder names of the rank that can take a name's words, or bar it."""
-        return [other for other in self._standing if other < name]
-
-    def _takers(self, name):
-        words = self._book.words(name)
-        return [other for other in self._elder(name) if self._book.words(other) == words]
-
     def _bars(self, name):
         # Without a family, and of another rank than 0, there is no sheet by which one could be barred.
         if not self._family:
             return []
-        own = self._book.words(name)[1]
-        alike = [other for other in self._elder(name) if self._book.words(other)[1] == own]
-        return [other for other in alike if all([sheet in self._family for sheet in self._bearers(other)])]
+        return [other for other in self._names.rivals(name) if self._is_in_family(other)]
+
+    def _is_in_family(self, name):
+        return all([sheet in self._family for sheet in self._names.bearers(name)])
 
     def _ways(self, name):
         """The aheads by which a name gives way."""
-        return [moment for moment, one, other in self._aheads if other == name and one in self._fit]
+        return [moment for moment, one, other in self._names.aheads() if other == name and one in self._fit]

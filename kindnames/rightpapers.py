@@ -2,6 +2,7 @@
 
 from kindnames.fits import Fits
 from kindnames.looks import is_headed, is_one_of, same
+from kindnames.names import Names
 from kindnames.words import is_list
 
 
@@ -23,7 +24,7 @@ def _let(fits, best, name):
 
 def right_paper(book, tree, node, *, upto=None):
     """The paper of a node's right name, or of its having none."""
-    fits = Fits(book, tree, node, upto)
+    fits = Fits(Names(book, upto), tree, node)
     best = fits.best()
     rows = [(name, *fits.first_reason(name)) for name in _asked(fits, best)]
     return ("none", rows) if best is None else ("right", best, rows)
@@ -47,7 +48,7 @@ def _shows_rows(rows, fits, best):
 
 def shows_right(book, tree, node, paper, *, upto=None):
     """Whether a thing is a paper of a node's right name."""
-    fits = Fits(book, tree, node, upto)
+    fits = Fits(Names(book, upto), tree, node)
     if is_headed(paper, "none", 2):
         return _shows_rows(paper[1], fits, None)
     if not is_headed(paper, "right", 3):

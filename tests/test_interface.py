@@ -15,6 +15,14 @@ FUNCTIONS = {
              "shows_one(minds, mind, node, other, paper, *, upto=None)"],
     "right": ["why_not(book, tree, node, name, *, upto=None)", "right(book, tree, node, *, upto=None)"],
     "rightpapers": ["right_paper(book, tree, node, *, upto=None)", "shows_right(book, tree, node, paper, *, upto=None)"],
+    "called": ["called(book, tree, node, *, upto=None)", "kind_called(book, tree, words, *, upto=None)"],
+    "wanted": ["wanted(book, tree, node, name, *, upto=None)"],
+    "choices": ["right_by(book, tree, node, choice, *, upto=None)", "may_be_right(book, tree, node, name, *, upto=None)",
+                "must_be_right(book, tree, node, name, *, upto=None)",
+                "shows_may(book, tree, node, name, paper, *, upto=None)",
+                "shows_must(book, tree, node, name, paper, *, upto=None)"],
+    "uses": ["meant(book, minds, words, mind, *, upto=None)", "led(sheets, tree)",
+             "leads(book, minds, words, mind, tree, *, upto=None)", "senses(book, one, two, *, upto=None)"],
 }
 
 CLASSES = {

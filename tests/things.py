@@ -68,3 +68,21 @@ def tell(book, record):
         book.strike(moment, record[2], whole=record[3])
     else:
         book.ahead(moment, record[2], record[3])
+
+
+def shuffled_book(chance, records):
+    """A book of records told late and in any order that lets each behind what it names, others told and dropped."""
+    book, waiting = Book(), list(records)
+    while waiting:
+        record = chance.choice(waiting)
+        named = [moment for moment in record[2:] if isinstance(moment, tuple) and record[0] != "name"]
+        named += [record[5]] if record[0] == "name" and record[5] else []
+        if all(moment in book.names() for moment in named):
+            tell(book, record)
+            waiting.remove(record)
+            if chance.random() < 0.3:
+                tell(book, ("name", (0, 1), 0, ("x", "m"), ("s",), None))
+                tell(book, ("strike", (7, 1), chance.choice(book.names()), True))
+                book.drop((7, 1))
+                book.drop((0, 1))
+    return book
