@@ -23,6 +23,10 @@ FUNCTIONS = {
                 "shows_must(book, tree, node, name, paper, *, upto=None)"],
     "uses": ["meant(book, minds, words, mind, *, upto=None)", "led(sheets, tree)",
              "leads(book, minds, words, mind, tree, *, upto=None)", "senses(book, one, two, *, upto=None)"],
+    "sides": ["lie(one, node, two, other)"],
+    "ways": ["least_way(one, two)", "shows_way(one, two, steps)", "way_pages(one, steps, *, but=())"],
+    "puts": ["fewest_puts(one, two)", "shows_puts(one, two, paper)", "puts_page(one, two, *, but=())"],
+    "frames": ["said(one, other, word)"],
 }
 
 CLASSES = {
@@ -38,6 +42,8 @@ CLASSES = {
     "minds": {"Minds()": [
         "tell(moment, mind, deeds)", "drop(moment)", "pages(*, mind=None, upto=None)", "line(mind, *, upto=None)",
         "tree(mind, *, upto=None)", "keeper(mind, node, *, upto=None)", "born(mind, node, *, upto=None)", "__len__()"]},
+    "frames": {"Frame(trees, *, open_nodes=(), closed=())": ["places()"],
+               "Saying(one, other, *, both=None, first=None, second=None)": ["__eq__(other)"]},
 }
 
 
