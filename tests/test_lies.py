@@ -229,6 +229,64 @@ class One(unittest.TestCase):
                 self.assertIs(refusal(self, NoNode, call, self.minds, "ann", A, thing, *more).node, thing)
 
 
+class ManyJoins(unittest.TestCase):
+    """Fourteen pages of two minds, each joining one kind to five others, every fourth taking the other mind."""
+
+    def setUp(self):
+        self.pages = []
+        for k in range(14):
+            deeds = [("join", (0, "abcdef"[k % 6]), (0, "abcdef"[(k + more) % 6])) for more in range(1, 6)]
+            if k % 4 == 3:
+                deeds.append(("take", "ba"[k % 2]))
+            self.pages.append(((k, 1), "ab"[k % 2], tuple(deeds)))
+        self.minds = Minds()
+        for page in self.pages:
+            self.minds.tell(*page)
+
+    def test_told_papers(self):
+        self.assertEqual(why_one(self.minds, "a", A, (0, "f")), ("one", [((0, 1), A, (0, "f"))]))
+        self.assertEqual(why_one(self.minds, "b", A, (0, "f"), upto=(2, 9)), ("one", [((1, 1), A, B), ((1, 1), B, (0, "f"))]))
+        told = why_one(self.minds, "b", A, (0, "f"))
+        self.assertEqual(told, ("one", [((0, 1), A, (0, "f"))]))
+        self.assertEqual(refusal(self, NoNode, why_one, self.minds, "b", A, B, upto=(0, 9)).node, A)
+        self.assertEqual(refusal(self, NoNode, why_one, self.minds, "a", A, (0, "g")).node, (0, "g"))
+
+    def test_all_pairs_and_eight_papers_of_each(self):
+        nodes = [(0, word) for word in "abcdef"]
+        for upto in [None, (3, 1), (6, 9), (11, 0)]:
+            for mind in "ab":
+                line = slow_line([page for page in self.pages if upto is None or page[0] <= upto], mind, None)
+                joins = [(page[0], *deed[1:]) for page in line for deed in page[2] if deed[0] == "join"]
+                joins = joins + [(moment, other, node) for moment, node, other in joins]
+                for node, other in itertools.product(nodes, repeat=2):
+                    word, links = why_one(self.minds, mind, node, other, upto=upto)
+                    self.assertEqual(word, "one")
+                    back = [link for link in joins if link[1] == other]
+                    papers = [(word, links), (word, tuple(links)), (word, links + [back[-1], (back[-1][0], *back[-1][:0:-1])]),
+                              (word, links[1:]), (word, links + back[:1]), (word, [((14, 1), node, other)]),
+                              ("apart", [node]), ("apart", nodes)]
+                    for paper in papers:
+                        self.assertIs(shows_one(self.minds, mind, node, other, paper, upto=upto),
+                                      self.slow_look(joins, node, other, paper))
+
+    def slow_look(self, joins, node, other, paper):
+        if paper[0] == "apart":
+            return False
+        at = node
+        for link in paper[1]:
+            if link not in joins or link[1] != at:
+                return False
+            at = link[2]
+        return at == other
+
+    def test_sheets_put_and_led_on(self):
+        self.minds.tell((2, 2), "a", [("put", ["s"], (0, "f"))])
+        self.assertEqual(why_lies(self.minds, "a", "s"), ("lies", (2, 2), (0, "f"), [((0, 1), (0, "f"), A)]))
+        self.assertEqual(why_lies(self.minds, "b", "s"), ("lies", (2, 2), (0, "f"), [((0, 1), (0, "f"), A)]))
+        for mind in "ab":
+            self.assertIs(shows_lies(self.minds, mind, "s", why_lies(self.minds, mind, "s")), True)
+
+
 class Many(unittest.TestCase):
     def test_papers_of_many_minds(self):
         chance = random.Random(18)
