@@ -189,7 +189,7 @@ def _shows_elder(name, rows, options, wanted):
         return False
     out = []
     for row in rows:
-        if not options.has_bars() or not _shows_row(row, options, wanted, out):
+        if not _shows_row(row, options, wanted, out):
             return False
         out.append(row[0])
     return _stays(options, name, wanted) and _is_loose(options, name, wanted, out)

@@ -29,9 +29,9 @@ def fewest_puts(one, two):
     weights = [[shares.get((kind, other), 0) for other in _padded(others, many)] for kind in _padded(kinds, many)]
     mates, first, second = heaviest(weights)
     pairs = []
-    for column, other in enumerate(others):
+    for column, paired in enumerate(others):
         if weights[mates[column]][column] > 0:
-            pairs.append((kinds[mates[column]], other))
+            pairs.append((kinds[mates[column]], paired))
     number = len(placed_by_both(one, two)) - sum([shares[pair] for pair in pairs])
     return (number, sorted(pairs), dict(zip(kinds, first)), dict(zip(others, second)))
 

@@ -13,10 +13,8 @@ def _plain_rows(fits, name):
     left = [one for one in fits.fit() if one not in ahead]
     links = fits.links(left)
     rows = [(one, "ahead") for one in ahead]
-    for elder in left:
-        if elder < name and not any([end >= name for end in chains(links, elder)]):
-            rows.append((elder, "elder"))
-    return rows
+    # Chains lead to where they start, too: neither the wanted name nor a younger one is told.
+    return rows + [(one, "elder") for one in left if all([end < name for end in chains(links, one)])]
 
 
 def wanted(book, tree, node, name, *, upto=None):

@@ -223,6 +223,23 @@ class May(unittest.TestCase):
             with self.subTest(paper=paper):
                 self.assertIs(shows_may(book, TREE, A, day(6), paper), False)
 
+    def test_no_row_of_the_wanted_base(self):
+        book = names(("x one", "sw"), ("z three", "s"), ("w one", 1))
+        self.assertIs(self.look(book, day(3), ("never", "elder", day(2), [])), True)
+        self.assertIs(self.look(book, day(3), ("never", "elder", day(2), [(day(1), "bars", day(1))])), False)
+        self.assertIs(self.look(book, day(3), ("never", "elder", day(2), [(day(1), "elder", day(1))])), False)
+
+    def test_barred_by_the_own_or_the_wanted_base_whatever_the_rows(self):
+        # (2, 1) and (3, 1) are of one base, all of whose bearers are in the node.
+        book = names(("x two", "s"), ("y three", 1), ("z three", 1), ("w nine", "t"))
+        rows = [(day(1), "elder", day(1))]
+        self.assertIs(self.look(book, day(4), ("never", "elder", day(2), rows)), True)
+        self.assertIs(self.look(book, day(4), ("never", "elder", day(3), rows)), False)
+        # The wanted one has no bearer in the family; that is another why, and each is looked at by itself.
+        book = names(("x two", "w"), ("y two", "s"), ("z two", 1))
+        self.assertIs(self.look(book, day(3), ("never", "elder", day(2), [])), False)
+        self.assertIs(self.look(book, day(3), ("never", "elder", day(1), [])), True)
+
     def test_no_rows_where_nobody_is_barred(self):
         tree = Tree({A: ["s", "t"], B: ["u", "v"], C: ["w"]}, {A: H, B: H})
         book = names(("x one", "sw"), ("x two", "s"), ("x three", "s"))
@@ -333,6 +350,21 @@ class Must(unittest.TestCase):
         book.strike(day(8), day(1))
         for name, rows in [(1, []), (3, [(day(1), "struck", day(8)), (day(2), "elsewhere", None)]), (2, [(day(1), "struck", day(8))])]:
             self.assertIs(self.look(book, day(name), ("must", rows)), False)
+
+    def test_must_is_not_let_by_of_a_struck_or_a_taken_one(self):
+        book = names(("x one", "w"), ("x one", "s"), ("x two", "s"))
+        self.assertIs(self.look(book, day(2), ("must", [(day(1), "elsewhere", None)])), False)
+        rows = [(day(1), "elsewhere", None), (day(2), "taken", day(1))]
+        self.assertIs(self.look(book, day(3), ("must", rows)), True)
+        book.strike(day(5), day(3))
+        self.assertIs(self.look(book, day(3), ("must", rows)), False)
+
+    def test_of_anything_in_the_rows(self):
+        book = self.four_book()
+        paper = must_be_right(book, TREE, A, day(5))
+        for changed in things_instead(paper):
+            told = shows_must(book, TREE, A, day(5), changed)
+            self.assertIs(told, repr(changed) == repr(paper))
 
     def test_choices_otherwise(self):
         book = names(("x one", "sw"), ("x two", "st"))

@@ -134,6 +134,13 @@ class Look(unittest.TestCase):
                 self.assertIs(self.let(paper), False)
         self.assertIs(shows_puts(self.two, self.one, (number, pairs, first, second)), False)
 
+    def test_each_kind_once_at_most(self):
+        one, two = tree_of("st"), tree_of("s", "t")
+        self.assertIs(shows_puts(one, two, (0, [(A, A), (A, B)], {A: 2}, {A: 0, B: 0})), False)
+        self.assertIs(shows_puts(two, one, (0, [(A, A), (B, A)], {A: 0, B: 0}, {A: 2})), False)
+        self.assertIs(shows_puts(two, one, (0, [(A, A), (B, A)], {A: 1, B: 1}, {A: 0})), False)
+        self.assertIs(shows_puts(one, two, (1, [(A, B)], {A: 1}, {A: 0, B: 0})), True)
+
     def test_of_anything(self):
         paper = (2, [(A, B)], {A: 1, B: 0, C: 0}, {A: 0, B: 1, C: 0})
         for thing in strange():
