@@ -1,17 +1,21 @@
 """What stands against names in a node of a tree."""
 
 
+def sheets_around(tree, node):
+    """The sheets of a node, and those of the family in which a kind lies, none where nobody can be barred."""
+    # Refuses a node that isn't in the tree; of None its sheets would be those of the whole tree.
+    tree.parent(node)
+    family = tree.above(node, 1) if node[0] == 0 else None
+    return (tree.sheets(node), [] if family is None else tree.sheets(family))
+
+
 class Fits:
     """The names of a node's rank, with all reasons why they aren't right in it but that of being younger."""
 
     def __init__(self, names, tree, node):
-        # Refuses a node that isn't in the tree; of None its sheets would be those of the whole tree.
-        tree.parent(node)
+        self._sheets, self._family = sheets_around(tree, node)
         self._names = names
         self._rank = node[0]
-        self._sheets = tree.sheets(node)
-        family = tree.above(node, 1) if node[0] == 0 else None
-        self._family = [] if family is None else tree.sheets(family)
         self._of_rank = names.of_rank(node[0])
         self._fit = [name for name in self._of_rank if not any([things for _, things in self.unfit(name)])]
 

@@ -1,5 +1,6 @@
 """What names may be by some choice of bearers, and what they are by all of them, seen from one node."""
 
+from kindnames.fits import sheets_around
 from kindnames.names import Names
 
 
@@ -7,14 +8,9 @@ class Options:
     """The names of a node's rank, with the bearers that choices can give them; aheads play no part."""
 
     def __init__(self, book, tree, node, upto):
-        # Refuses a node that isn't in the tree; of None its sheets would be those of the whole tree.
-        tree.parent(node)
+        self._sheets, self._family = sheets_around(tree, node)
         self._names = Names(book, upto)
         self._rank = node[0]
-        self._sheets = tree.sheets(node)
-        family = tree.above(node, 1) if node[0] == 0 else None
-        # Without a family, and of another rank than 0, nobody is barred.
-        self._family = [] if family is None else tree.sheets(family)
 
     def refuse(self, name):
         """Refuse a name that isn't there, or is of another rank."""

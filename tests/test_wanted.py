@@ -96,6 +96,15 @@ class Wanted(unittest.TestCase):
         self.assertEqual(wanted(book, tree, A, (4, 1)),
                          ("strikes", [((1, 1), "bars"), ((2, 1), "bars"), ((3, 1), "elder")]))
 
+    def test_no_other_whole_strikes_are_told(self):
+        # With (1, 1) wholly struck (5, 1) would be fit, and both elder ones would give way to it.
+        book = names(("x one", "v"), ("x two", "s"), ("x three", "s"), ("x four", "s"), ("x one", "s"))
+        book.ahead((6, 1), (5, 1), (2, 1))
+        book.ahead((6, 2), (5, 1), (3, 1))
+        self.assertEqual(self.told(book, (4, 1)), ("strikes", [((2, 1), "elder"), ((3, 1), "elder")]))
+        book.strike((7, 1), (1, 1), whole=True)
+        self.assertEqual(self.told(book, (4, 1)), ("strikes", []))
+
     def test_ahead(self):
         book = names(("x one", "s"), ("x two", "t"), ("x three", "s"), ("x four", "u"))
         book.ahead((5, 1), (2, 1), (1, 1))
