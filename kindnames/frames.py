@@ -1,6 +1,6 @@
 """Frames, the places where things may be in two or three trees, and sayings of how two sides lie."""
 
-from kindnames.errors import BadFrame, BadSaying, TooMany
+from kindnames.errors import BadFrame, BadSaying, BadSide, TooMany
 from kindnames.trees import Tree
 from kindnames.words import is_list, is_node, is_number
 
@@ -59,6 +59,7 @@ class Frame:
 
     def __init__(self, trees, *, open_nodes=(), closed=()):
         _refuse_parts(trees, open_nodes, closed)
+        self._trees = list(trees)
         rows = []
         for number, tree in enumerate(trees):
             opened = [side[1] for side in open_nodes if side[0] == number]
@@ -74,6 +75,26 @@ class Frame:
     def places(self):
         """All places, in order."""
         return list(self._made)
+
+    def refuse(self, side):
+        """Refuse a side that the frame hasn't."""
+        if not _has_side(self._trees, side):
+            raise BadSide(side)
+
+    def inside(self, side):
+        """The numbers of the places that are in a side, rising."""
+        number, node = side
+        tree = self._trees[number]
+        items = {item: True for item in tree.nodes() if tree.above(item, node[0]) == node}
+        return [at for at, place in enumerate(self._made) if place[number] in items]
+
+    def placed(self):
+        """A dict from the sheets that the trees place, by letters, to the sides where these lie: the kinds."""
+        sides = {}
+        for number, tree in enumerate(self._trees):
+            for sheet in tree.sheets():
+                sides.setdefault(sheet, []).append((number, tree.kind_of(sheet)))
+        return {sheet: sides[sheet] for sheet in sorted(sides)}
 
 
 class Saying:

@@ -91,6 +91,9 @@ class Form(unittest.TestCase):
                     let += [id(each) for each in node.args]
                 if isinstance(node, ast.Compare):
                     let += [id(each) for each in [node.left] + node.comparators]
+                # Several in one place, joined by a sign.
+                if isinstance(node, ast.BinOp) and id(node) in let:
+                    let += [id(node.left), id(node.right)]
             for node in ast.walk(tree):
                 is_set = isinstance(node, ast.SetComp)
                 is_set = is_set or isinstance(node, ast.Call) and isinstance(node.func, ast.Name) and node.func.id == "set"

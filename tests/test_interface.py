@@ -27,6 +27,11 @@ FUNCTIONS = {
     "ways": ["least_way(one, two)", "shows_way(one, two, steps)", "way_pages(one, steps, *, but=())"],
     "puts": ["fewest_puts(one, two)", "shows_puts(one, two, paper)", "puts_page(one, two, *, but=())"],
     "frames": ["said(one, other, word)"],
+    "worlds": ["world(frame, sayings)", "shows_world(frame, sayings, places)", "shows_clash(frame, sayings, need, rows)"],
+    "mays": ["may_lie(frame, sayings, one, other)", "follows(frame, sayings, saying)", "through(word, other)",
+             "blame(frame, sayings)"],
+    "shared": ["common(trees)", "groups(tree, sheets)", "shared_groups(trees)", "distance(one, two)"],
+    "onetree": ["one_tree(trees)", "keeps_all(trees, groups)", "shows_no_tree(trees, sheets, rows)"],
 }
 
 CLASSES = {

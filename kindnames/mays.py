@@ -1,0 +1,56 @@
+"""How two sides may lie by all that is said, what follows from sayings, and which sayings are to blame."""
+
+from kindnames.cases import Case
+from kindnames.frames import WORDS, Frame, said
+from kindnames.trees import Tree
+from kindnames.worlds import world
+
+
+def may_lie(frame, sayings, one, other):
+    """Of each of the five words a world or a clash of the sayings with one more that says it of two sides."""
+    # All are made ahead of the first world: sides of one tree are refused ahead of sides that the frame hasn't.
+    more = {word: said(one, other, word) for word in WORDS}
+    return {word: world(frame, [*sayings, saying]) for word, saying in more.items()}
+
+
+def _is_so(case, is_some, places):
+    """Whether in each world some of some places is taken, or none is."""
+    if is_some:
+        # Worlds are the lists of places left that leave no need out: without these places there must be none.
+        return case.lacking(case.left() & ~places) is not None
+    # All that is left is a world itself.
+    return not case.left() & places
+
+
+def follows(frame, sayings, saying):
+    """Whether a saying is so in each world of some others; all are where these have none."""
+    case = Case(frame, sayings)
+    frame.refuse(saying.one)
+    frame.refuse(saying.other)
+    if case.lacking(case.left()) is not None:
+        return True
+    return all([_is_so(case, is_some, places) for _, is_some, places in case.parts(saying)])
+
+
+def through(word, other):
+    """The words that two words, of a first and a second and of the second and a third, let be of first and third."""
+    kind = (0, "kind")
+    # Each tree has a sheet of its own, so each of the kinds has something, and none shows where.
+    frame = Frame([Tree({kind: [sheet]}) for sheet in ["first", "second", "third"]])
+    sayings = [said((0, kind), (1, kind), word), said((1, kind), (2, kind), other)]
+    told = may_lie(frame, sayings, (0, kind), (2, kind))
+    return [third for third, paper in told.items() if paper[0] == "world"]
+
+
+def blame(frame, sayings):
+    """Numbers of sayings that have no world together, and have one without any of them; None where all have one."""
+    case = Case(frame, sayings)
+    if case.lacking(case.left()) is None:
+        return None
+    # What is left out more only leaves more worlds: a saying that is needed once stays needed.
+    out = []
+    for number in range(len(sayings)):
+        but = [*out, number]
+        if case.lacking(case.left(but), but) is not None:
+            out = but
+    return [number for number in range(len(sayings)) if number not in out]
