@@ -74,6 +74,11 @@ class Shared(unittest.TestCase):
         self.assertEqual(shared_groups((ONE, ONE, THREE, THREE, THREE)), [(("s", "t", "v"), 3)])
         self.assertEqual(shared_groups(trees=[THREE, ONE, ONE, THREE, ONE, TWO]), [(("s", "t"), 4)])
 
+    def test_rising_whatever_tree_has_them_first(self):
+        last = Tree({A: ["s"], B: ["t"], C: ["v", "w"]})
+        both = Tree({A: ["s", "t"], C: ["v", "w"]})
+        self.assertEqual(shared_groups([last, both, both]), [(("s", "t"), 2), (("v", "w"), 3)])
+
     def test_over_the_sheets_that_all_place(self):
         self.assertEqual(shared_groups([ONE, ONE, Tree({A: ["v", "w"]})]), [(("v", "w"), 3)])
         self.assertEqual(shared_groups([ONE, ONE, Tree({A: ["v"]})]), [])

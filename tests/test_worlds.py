@@ -98,6 +98,14 @@ class Told(unittest.TestCase):
         self.assertEqual(FRAME.places(), EVERY)
         self.assertEqual(sayings, [Saying((0, A), (1, D), both=False)])
 
+    def test_what_is_handed_in_and_changed_afterwards(self):
+        trees = [ONE, TWO]
+        frame = Frame(trees)
+        trees[0], trees[1] = Tree(), Tree()
+        self.assertEqual(world(frame, []), ("world", EVERY))
+        self.assertEqual(world(frame, [Saying((0, A), (1, D), both=False)])[:2], ("clash", ("sheet", "s")))
+        self.assertIs(shows_world(frame, [], EVERY), True)
+
     def test_just_one_of_both(self):
         chance = random.Random(81)
         many = {"world": 0, "clash": 0}
