@@ -6,7 +6,7 @@ from kindnames.moments import is_there, refuse_missing, refuse_new
 from kindnames.words import MOST_RANK, are_sheets, is_list, is_moment, is_number, is_word
 
 
-def _bad_part(rank, words, sheets, like):
+def bad_name(rank, words, sheets, like):
     """The first part of a name that is not as told, or None."""
     if not is_number(rank, 0, MOST_RANK):
         return "rank"
@@ -49,7 +49,7 @@ class Book:
     def publish(self, moment, words, *, rank=0, sheets=(), like=None):
         """Publish a name with sheets of its own, or like an elder name."""
         refuse_new(moment, self._entries)
-        part = _bad_part(rank, words, sheets, like)
+        part = bad_name(rank, words, sheets, like)
         if part is not None:
             raise BadName(part)
         if like is not None:

@@ -76,6 +76,16 @@ class Case:
                 return (need, bits)
         return None
 
+    def has_world(self, but=()):
+        """Whether the sayings have a world, some of them left out."""
+        return self.lacking(self.left(but), but) is None
+
+    def is_always_so(self, saying):
+        """Whether a saying of sides of the frame is so in each world."""
+        if not self.has_world():
+            return True
+        return all([self._is_sure(is_some, bits) for _, is_some, bits in self.parts(saying)])
+
     def places(self, bits):
         """Places told as bits, in order."""
         return [place for at, place in enumerate(self._order) if bits >> at & 1]
@@ -89,6 +99,14 @@ class Case:
                 return None
             told = told | 1 << self._numbers[place]
         return told
+
+    def _is_sure(self, is_some, bits):
+        """Whether in each world some of some places is taken, or none is."""
+        if is_some:
+            # A world is of places left and leaves no need out: without these places there must be none.
+            return self.lacking(self.left() & ~bits) is not None
+        # All that is left is a world itself.
+        return not self.left() & bits
 
     def _side(self, side):
         if side not in self._sides:

@@ -97,6 +97,14 @@ class Frame:
         return {sheet: sides[sheet] for sheet in sorted(sides)}
 
 
+def unsaid_part(both, first, second):
+    """The first of the three parts of a saying of which neither a truth nor None is told, or None."""
+    for part, told in [("both", both), ("first", first), ("second", second)]:
+        if told is not True and told is not False and told is not None:
+            return part
+    return None
+
+
 class Saying:
     """What is said of two sides, which never changes: whether something is in both, in one of them alone."""
 
@@ -105,9 +113,9 @@ class Saying:
             raise BadSaying("one")
         if not _is_side(other, MOST_TREES) or other[0] == one[0]:
             raise BadSaying("other")
-        for part, said_of_it in [("both", both), ("first", first), ("second", second)]:
-            if said_of_it is not True and said_of_it is not False and said_of_it is not None:
-                raise BadSaying(part)
+        part = unsaid_part(both, first, second)
+        if part is not None:
+            raise BadSaying(part)
         self.one = one
         self.other = other
         self.both = both

@@ -13,23 +13,12 @@ def may_lie(frame, sayings, one, other):
     return {word: world(frame, [*sayings, saying]) for word, saying in more.items()}
 
 
-def _is_so(case, is_some, places):
-    """Whether in each world some of some places is taken, or none is."""
-    if is_some:
-        # Worlds are the lists of places left that leave no need out: without these places there must be none.
-        return case.lacking(case.left() & ~places) is not None
-    # All that is left is a world itself.
-    return not case.left() & places
-
-
 def follows(frame, sayings, saying):
     """Whether a saying is so in each world of some others; all are where these have none."""
     case = Case(frame, sayings)
     frame.refuse(saying.one)
     frame.refuse(saying.other)
-    if case.lacking(case.left()) is not None:
-        return True
-    return all([_is_so(case, is_some, places) for _, is_some, places in case.parts(saying)])
+    return case.is_always_so(saying)
 
 
 def through(word, other):
@@ -45,12 +34,11 @@ def through(word, other):
 def blame(frame, sayings):
     """Numbers of sayings that have no world together, and have one without any of them; None where all have one."""
     case = Case(frame, sayings)
-    if case.lacking(case.left()) is None:
+    if case.has_world():
         return None
     # What is left out more only leaves more worlds: a saying that is needed once stays needed.
     out = []
     for number in range(len(sayings)):
-        but = [*out, number]
-        if case.lacking(case.left(but), but) is not None:
-            out = but
+        if not case.has_world([*out, number]):
+            out.append(number)
     return [number for number in range(len(sayings)) if number not in out]

@@ -3,7 +3,7 @@
 from kindnames.deeds import bad_place, kept, taken
 from kindnames.errors import BadPage
 from kindnames.lines import Line
-from kindnames.moments import is_there, refuse_missing, refuse_new
+from kindnames.moments import is_there, just_ahead, refuse_missing, refuse_new
 from kindnames.words import is_list, is_node, is_word
 
 
@@ -11,11 +11,6 @@ def _last_take(pages):
     """The last of some pages that has a take, or None."""
     taking = [page for page in pages if taken(page[2]) is not None]
     return taking[-1] if taking else None
-
-
-def _just_ahead(moment):
-    """The pair up to which all lesser moments are there, and no other ones."""
-    return (moment[0], moment[1] - 1)
 
 
 class Minds:
@@ -51,7 +46,7 @@ class Minds:
         page = _last_take(own)
         while page is not None:
             told = [each[0] for each in own if each[0] >= page[0]] + told
-            own = self._own(taken(page[2]), _just_ahead(page[0]))
+            own = self._own(taken(page[2]), just_ahead(page[0]))
             page = _last_take(own)
         return [each[0] for each in own] + told
 

@@ -9,6 +9,11 @@ def is_there(moment, upto):
     return upto is None or moment <= upto
 
 
+def just_ahead(moment):
+    """The pair up to which all lesser moments are there, and no other ones."""
+    return (moment[0], moment[1] - 1)
+
+
 def refuse_new(moment, entries):
     """Refuse a moment for a new entry beside a dict of those that stand."""
     if not is_moment(moment):

@@ -31,6 +31,11 @@ FUNCTIONS = {
     "mays": ["may_lie(frame, sayings, one, other)", "follows(frame, sayings, saying)", "through(word, other)",
              "blame(frame, sayings)"],
     "shared": ["common(trees)", "groups(tree, sheets)", "shared_groups(trees)", "distance(one, two)"],
+    "turns": ["turns(house, mind, kind, *, since, upto=None)"],
+    "saidof": ["house_may_lie(house, one, other, *, third=None, upto=None)",
+               "use_may(house, words, mind, other, *, upto, on, told=None)"],
+    "texts": ["show_record(record)", "read_record(row)", "show_house(house)", "read_house(text)"],
+    "printed": ["printed(house, mind, node, *, upto)", "read_printed(text)", "shows_printed(house, text)"],
     "onetree": ["one_tree(trees)", "keeps_all(trees, groups)", "shows_no_tree(trees, sheets, rows)"],
 }
 
@@ -47,6 +52,11 @@ CLASSES = {
     "minds": {"Minds()": [
         "tell(moment, mind, deeds)", "drop(moment)", "pages(*, mind=None, upto=None)", "line(mind, *, upto=None)",
         "tree(mind, *, upto=None)", "keeper(mind, node, *, upto=None)", "born(mind, node, *, upto=None)", "__len__()"]},
+    "house": {"House()": [
+        "publish(moment, words, *, rank=0, sheets=(), like=None)", "choose(moment, name, sheet)",
+        "strike(moment, name, *, whole=False)", "ahead(moment, name, other)", "page(moment, mind, deeds)",
+        "say(moment, mind, one, other, *, both=None, first=None, second=None)", "tell(record)", "drop(moment)",
+        "records(*, upto=None)", "book()", "minds()", "tree(mind, *, upto=None)", "__len__()"]},
     "frames": {"Frame(trees, *, open_nodes=(), closed=())": ["places()"],
                "Saying(one, other, *, both=None, first=None, second=None)": ["__eq__(other)"]},
 }
