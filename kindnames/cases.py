@@ -66,7 +66,7 @@ class Case:
         for number, _, bits in self._strikes:
             if number not in but:
                 struck = struck | bits
-        return (1 << len(self._order)) - 1 & ~struck
+        return ((1 << len(self._order)) - 1) & ~struck
 
     def lacking(self, taken, but=()):
         """The first need of which no place is taken, with its places, some sayings left out; or None."""

@@ -2,7 +2,7 @@
 
 from kindnames.errors import BadSaying
 from kindnames.frames import unsaid_part
-from kindnames.moments import is_there, refuse_missing, refuse_new
+from kindnames.moments import is_there
 from kindnames.words import is_node, is_pair, is_word
 
 
@@ -25,7 +25,7 @@ def bad_saying(mind, one, other, both, first, second):
 
 
 class Sayings:
-    """Sayings by their moments, kept as the records that are told:
+    """Sayings of a house by their moments, which the house has asked for; kept as the records that are told:
 
     ("saying", moment, mind, one, other, both, first, second).
     """
@@ -35,7 +35,6 @@ class Sayings:
 
     def say(self, moment, mind, one, other, *, both=None, first=None, second=None):
         """Tell what a mind says of a node of a tree and a node of another one."""
-        refuse_new(moment, self._told)
         part = bad_saying(mind, one, other, both, first, second)
         if part is not None:
             raise BadSaying(part)
@@ -43,9 +42,8 @@ class Sayings:
 
     def drop(self, moment):
         """Drop the saying of a moment."""
-        refuse_missing(moment, self._told)
         del self._told[moment]
 
     def entries(self, *, upto=None):
-        """The records up to a pair, by moments."""
-        return [self._told[moment] for moment in sorted(self._told) if is_there(moment, upto)]
+        """The records up to a pair, as they were told."""
+        return [record for moment, record in self._told.items() if is_there(moment, upto)]

@@ -10,7 +10,7 @@ def _name(book, minds, mind, kind, upto):
     """The right name of a kind's keeper, None where there is none or it isn't there."""
     keeper = minds.keeper(mind, kind, upto=upto)
     tree = minds.tree(mind, upto=upto)
-    if keeper is None or keeper not in tree.nodes():
+    if keeper not in tree.nodes():
         return None
     return right(book, tree, keeper, upto=upto)
 

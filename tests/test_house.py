@@ -50,6 +50,9 @@ class Told(unittest.TestCase):
         self.assertIsNone(house.ahead((2, 3), (1, 3), (1, 1)))
         self.assertIsNone(house.page((2, 4), "ann", []))
         self.assertIsNone(house.say((2, 5), "ann", ONE, OTHER))
+        self.assertEqual(house.records()[4:], [
+            ("strike", (2, 2), (1, 1), False), ("ahead", (2, 3), (1, 3), (1, 1)), ("page", (2, 4), "ann", ()),
+            ("saying", (2, 5), "ann", ONE, OTHER, None, None, None)])
         self.assertIsNone(house.drop((2, 5)))
         self.assertEqual(len(house), 7)
 

@@ -83,7 +83,7 @@ UNREADABLE = [
     "1.1 strike 0.1 ", "1.1 strike 0.1 plainly", "1.1 strike 0.1 0.2", "1.1 ahead 0.1", "1.1 ahead 0.1 0.2 0.3", "1.1 ahead 0.1 s",
     "1.1 ahead s 0.1", "1.1 ahead 0.1 0.0", "1.1 ahead 0.0 0.1",
     # Pages.
-    "1.1 page Ann", "1.1 page ann bob", "1.1 page ;", "1.1 page ; take ann", "1.1 page ann ;", "1.1 page ann ; ", "1.1 page ann ; ; take bob",
+    "1.1 page Ann", "1.1 page Ann ; take bob", "1.1 page ann bob", "1.1 page ;", "1.1 page ; take ann", "1.1 page ann ;", "1.1 page ann ; ", "1.1 page ann ; ; take bob",
     "1.1 page ann ; take bob ;", "1.1 page ann; take bob", "1.1 page ann ;take bob", "1.1 page ann take bob", "1.1 page ann ; take",
     "1.1 page ann ; take bob cid", "1.1 page ann ; take Bob", "1.1 page ann ; take bob ; take cid", "1.1 page ann ; takes bob",
     "1.1 page ann ; join kind a", "1.1 page ann ; join kind a kind", "1.1 page ann ; join kind a kind a", "1.1 page ann ; join kind a family b",
