@@ -20,13 +20,18 @@ def _is_place(thing):
     return isinstance(thing, tuple) and all([item is None or is_node(item) for item in thing])
 
 
+def refuse_sides(frame, sayings):
+    """Refuse the first side of sayings that a frame hasn't."""
+    for saying in sayings:
+        frame.refuse(saying.one)
+        frame.refuse(saying.other)
+
+
 class Case:
     """What sayings of a frame strike, and what is needed of it."""
 
     def __init__(self, frame, sayings):
-        for saying in sayings:
-            frame.refuse(saying.one)
-            frame.refuse(saying.other)
+        refuse_sides(frame, sayings)
         self._frame = frame
         self._order = frame.places()
         self._numbers = {place: at for at, place in enumerate(self._order)}

@@ -1,6 +1,7 @@
 """How two sides may lie by all that is said, what follows from sayings, and which sayings are to blame."""
 
-from kindnames.cases import Case
+from kindnames.cases import Case, refuse_sides
+from kindnames.errors import BadSaying
 from kindnames.frames import WORDS, Frame, said
 from kindnames.trees import Tree
 from kindnames.worlds import world
@@ -8,17 +9,18 @@ from kindnames.worlds import world
 
 def may_lie(frame, sayings, one, other):
     """Of each of the five words a world or a clash of the sayings with one more that says it of two sides."""
-    # All are made ahead of the first world: sides of one tree are refused ahead of sides that the frame hasn't.
-    more = {word: said(one, other, word) for word in WORDS}
-    return {word: world(frame, [*sayings, saying]) for word, saying in more.items()}
+    if one[0] == other[0]:
+        raise BadSaying("other")
+    refuse_sides(frame, sayings)
+    frame.refuse(one)
+    frame.refuse(other)
+    return {word: world(frame, [*sayings, said(one, other, word)]) for word in WORDS}
 
 
 def follows(frame, sayings, saying):
     """Whether a saying is so in each world of some others; all are where these have none."""
-    case = Case(frame, sayings)
-    frame.refuse(saying.one)
-    frame.refuse(saying.other)
-    return case.is_always_so(saying)
+    refuse_sides(frame, [*sayings, saying])
+    return Case(frame, sayings).is_always_so(saying)
 
 
 def through(word, other):

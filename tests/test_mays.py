@@ -75,13 +75,16 @@ class MayLie(unittest.TestCase):
     def test_two_sides_of_one_tree_ahead_of_all_else(self):
         bad = Saying((0, D), (1, A))
         for sayings in [[], [bad]]:
-            for one, other in [((0, A), (0, B)), ((1, D), (1, D)), ((0, D), (0, G)), ((2, A), (2, B))]:
+            for one, other in [((0, A), (0, B)), ((1, D), (1, D)), ((0, D), (0, G)), ((2, A), (2, B)), ((7, A), (7, B))]:
                 self.assertEqual(refusal(self, BadSaying, may_lie, FRAME, sayings, one, other).part, "other")
 
     def test_sides_that_the_frame_has_not(self):
         bad = Saying((0, A), (1, A))
         for one, other, side in [((0, D), (1, A), (0, D)), ((0, A), (1, A), (1, A)), ((2, A), (0, A), (2, A)),
-                                 ((0, A), (2, A), (2, A)), ((1, F), (0, G), (1, F))]:
+                                 ((0, A), (2, A), (2, A)), ((1, F), (0, G), (1, F)),
+                                 # Of a tree that no frame has, of no number, of no node.
+                                 ((3, A), (0, A), (3, A)), ((0, A), (-1, D), (-1, D)), ((None, A), (1, D), (None, A)),
+                                 ((0, None), (1, D), (0, None)), ((0, A), (1, (6, "d")), (1, (6, "d")))]:
             self.assertEqual(refusal(self, BadSide, may_lie, FRAME, [], one, other).side, side)
             self.assertEqual(refusal(self, BadSide, may_lie, FRAME, [Saying((1, E), (2, A)), bad], one, other).side, (2, A))
             self.assertEqual(refusal(self, BadSide, may_lie, FRAME, [bad], one, other).side, (1, A))
